@@ -45,22 +45,41 @@ func (s *story) open(t *testing.T) (string, []string) {
 	return text, data
 }
 
-// settle settles, with its write or sync failing where told, and looks that it was told so.
+// waits tells whether a write of a sector waits: if so, a byte that is turned in what lasts isn't read.
+func waits(d *disk.Disk, i int) bool {
+	before, _ := d.Read(i)
+	d.Rot(i, 0, 1)
+	after, _ := d.Read(i)
+	d.Rot(i, 0, 1)
+	return before == after
+}
+
+// asks is how many things a settling asks of the disk: a write for each part and a sync behind them. Only where the text that the vault has doesn't last, and the new one could be torn, there is a sync ahead, for P16.4.
+func (s *story) asks(text string) int {
+	n := parts(text) + 1
+	if parts(text) > 1 && waits(s.d, s.v.Slot*s.n) {
+		n++
+	}
+	return n
+}
+
+// settle settles, with its write or sync failing where told, and looks that it asked just what it should, and was told so.
 func (s *story) settle(t *testing.T, text string, fails int) api.Errno {
 	t.Helper()
+	want, did, ops := api.OK, s.asks(text), s.d.Ops()
+	if fails > 0 && fails <= did {
+		want, did = api.ErrDisk, fails-1
+	}
 	s.d.Arm(fails)
 	v, e := s.v.Settle(s.d, text)
 	s.d.Arm(0)
-	switch e {
-	case api.OK:
-		s.last, s.tried, s.written, s.lasts = text, nil, nil, 0
-	case api.ErrDisk:
-		s.tried = append(s.tried, text)
-	default:
-		t.Fatal(e)
+	if e != want || s.d.Ops()-ops != did || v.Stuck != (e != api.OK) {
+		t.Fatal(v, e, fails, s.d.Ops()-ops, "not", want, did)
 	}
-	if v.Stuck != (e != api.OK) || e != api.OK && fails == 0 {
-		t.Fatal(v, e, fails)
+	if e == api.OK {
+		s.last, s.tried, s.written, s.lasts = text, nil, nil, 0
+	} else {
+		s.tried = append(s.tried, text)
 	}
 	s.v = v
 	return e
@@ -180,20 +199,63 @@ func TestCrashes(t *testing.T) {
 	}
 }
 
+// tries goes over three settlings, each of one part or two, failing anywhere or not, with the disk opened behind it or not.
+func tries(yield func([3]turn) bool) {
+	for k := range 20 * 20 * 20 {
+		var all [3]turn
+		for i := range all {
+			all[i] = turn{first: k % 5, anew: k/5%2 == 1, parts: [2]int{1 + k/10%2}}
+			k /= 20
+		}
+		if !yield(all) {
+			return
+		}
+	}
+}
+
+// P16.3, P16.4: three settlings behind one whose text lasts: each asks just what it should of the disk, and behind every crash there is what must be there.
+func TestCrashesTried(t *testing.T) {
+	for all := range tries {
+		play := func() *story {
+			s := begin(t, 5, 2, text("a", 2))
+			s.settle(t, text("b", 2), 0)
+			for i, u := range all {
+				s.settle(t, text(strconv.Itoa(i), u.parts[0]), u.first)
+				if u.anew {
+					s.open(t)
+				}
+			}
+			return s
+		}
+		s := play()
+		n := s.d.Waiting()
+		for number := range 1 << n {
+			if number > 0 {
+				s = play()
+			}
+			s.crash(t, part(number, n))
+		}
+	}
+}
+
 // step does something by chance.
 func (s *story) step(t *testing.T, r *rand.Rand, name string) {
 	t.Helper()
 	fails := max(0, r.IntN(10)-4)
-	switch r.IntN(8) {
+	switch r.IntN(9) {
 	case 0:
 		s.open(t)
-	case 1:
+	case 1: // it is looked at, and gone on with as it was
+		v := s.v
+		s.open(t)
+		s.v = v
+	case 2:
 		var keep []bool
 		for range r.IntN(8) {
 			keep = append(keep, r.IntN(2) == 0)
 		}
 		s.crash(t, keep)
-	case 2, 3, 4:
+	case 3, 4, 5:
 		s.settle(t, text(name, 1+r.IntN(s.n)), fails)
 	default:
 		s.record(t, name, fails)
@@ -211,6 +273,115 @@ func TestCrashesOn(t *testing.T) {
 		}
 		s.crash(t, nil)
 	}
+}
+
+// P16.3: where just records wait, and the text lasts, a settling asks no more than a write for each part and a sync behind them, and fails where one of these does: behind a settling that failed, or an Open, or both.
+func TestSettleRecordsWait(t *testing.T) {
+	for k := range 3 * 3 * 2 * 5 {
+		sectors, first, opened, fails := 1+k%3, k/3%3, k/9%2 == 1, k/18
+		s := begin(t, 9, 3, text("a", 3))
+		s.settle(t, text("b", 2), 0)
+		s.record(t, "r0", 2)
+		s.record(t, "r1", 2)
+		if first > 0 {
+			s.settle(t, text("c", 3), first)
+		}
+		if opened || first == 0 {
+			s.open(t)
+		}
+		if n := s.d.Waiting(); n != 2+max(0, first-1) || s.v.Slot != 1 || s.v.Log.Next != 2 {
+			t.Fatal(n, s.v)
+		}
+		ops := s.d.Ops()
+		want, did := api.OK, sectors+1
+		if fails > 0 && fails <= did {
+			want, did = api.ErrDisk, fails-1
+		}
+		if e := s.settle(t, text("d", sectors), fails); e != want || s.d.Ops()-ops != did {
+			t.Fatal(sectors, first, opened, fails, e, s.d.Ops()-ops)
+		}
+		if did >= sectors { // all parts are written: the text is read, whether it lasts or not
+			s.open(t)
+			if s.v.Slot != 0 || s.v.Log.Next != 0 {
+				t.Fatal(s.v)
+			}
+		}
+	}
+}
+
+// P16.4: where the text doesn't last, as a Format's or a Settle's sync failed and the disk was opened behind it, a crash within the next settling leaves it, or the new one.
+func TestSettleTextWaits(t *testing.T) {
+	for k := range 2 * 3 * 6 * 16 {
+		format, sectors, fails, number := k%2 == 1, 1+k/2%3, k/6%6, k/36
+		d := fresh(t, 9)
+		if !format {
+			d = formatted(t, 9, 3, text("a", 3))
+			settled(t, d, opened(t, d), 2, text("b", 2))
+			d.Arm(4)
+			if v, e := opened(t, d).Settle(d, text("c", 3)); e != api.ErrDisk || !v.Stuck {
+				t.Fatal(v, e)
+			}
+		} else if d.Arm(4); Format(d, 3, text("c", 3)) != api.ErrDisk {
+			t.Fatal("a Format didn't fail")
+		}
+		v := opened(t, d)
+		if d.Waiting() != 3 {
+			t.Fatal(d.Waiting())
+		}
+		d.Arm(fails)
+		_, e := v.Settle(d, text("d", sectors))
+		d.Arm(0)
+		left := []string{text("d", sectors)}
+		if e != api.OK {
+			left = append(left, text("c", 3))
+		}
+		if waits(d, 3*v.Slot) { // nothing was written yet that could be torn
+			left = append(left, text("b", 2))
+			if format {
+				continue // no text was ever there that lasts
+			}
+		}
+		d.Crash(part(number, d.Waiting()))
+		if _, is, _, e := Open(d, 3); e != api.OK || !slices.Contains(left, is) {
+			t.Fatal(k, is, e)
+		}
+	}
+}
+
+// P16.3, P16.4: where the text doesn't last, just a text that one sector can't hold is synced ahead of; never where the vault isn't stuck, whatever waits beside.
+func TestSettleEdges(t *testing.T) {
+	for _, length := range []int{0, 1, 105, 106, 107, 110, 216, 217} {
+		text := strings.Repeat("t", length)
+		d := fresh(t, 9)
+		d.Arm(2)
+		if e := Format(d, 3, "a"); e != api.ErrDisk {
+			t.Fatal(e)
+		}
+		ops, want := d.Ops(), parts(text)+1
+		if length > 106 {
+			want++
+		}
+		v := settled(t, d, opened(t, d), 2, text)
+		if d.Ops()-ops != want {
+			t.Fatal(length, d.Ops()-ops)
+		}
+		put(t, d, 8, blank)
+		ops = d.Ops()
+		settled(t, d, v, 3, text)
+		if d.Ops()-ops != parts(text)+1 {
+			t.Fatal(length, d.Ops()-ops)
+		}
+	}
+}
+
+// opened is the vault of a disk of two slots of 3.
+func opened(t *testing.T, d *disk.Disk) Vault {
+	t.Helper()
+	v, _, _, e := Open(d, 3)
+	if e != api.OK {
+		t.Fatal(e)
+	}
+	return v
 }
 
 // P16.4: behind each crash within it, a Settle has left the old text or the new one; where the crash keeps nothing, the old one, where it keeps all that a whole text has, the new one.
